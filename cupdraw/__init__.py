@@ -1,0 +1,1 @@
+"""Cupdraw: contests planned, paired, drawn, tabled and foretold."""

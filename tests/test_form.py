@@ -1,0 +1,263 @@
+"""The form of the package's own files: the small part of Python that it keeps to, as far as a test can see it."""
+
+import ast
+import builtins
+import pathlib
+import re
+import unittest
+
+import cupdraw
+
+FOLDER = pathlib.Path(cupdraw.__file__).parent
+
+NODES = (
+    "Module FunctionDef ClassDef arguments arg Expr Assign AugAssign AnnAssign If While For Return Break Continue Pass "
+    "Raise Try ExceptHandler ImportFrom alias Constant JoinedStr FormattedValue Name Load Store Attribute Subscript "
+    "Slice Call keyword Lambda IfExp ListComp comprehension List Tuple Dict Set Compare BoolOp And Or UnaryOp Not USub "
+    "UAdd Invert BinOp Add Sub Mult FloorDiv Mod Pow BitAnd BitOr BitXor LShift RShift Eq NotEq Lt LtE Gt GtE In NotIn "
+    "Is IsNot"
+).split()
+
+OWN_NAMES = (
+    "len range enumerate zip min max sum abs sorted reversed int str bool list tuple dict set frozenset isinstance ord "
+    "repr any all divmod Exception ValueError TypeError KeyError IndexError LookupError ZeroDivisionError "
+    "ArithmeticError OverflowError RuntimeError NotImplementedError AttributeError StopIteration"
+).split()
+
+METHODS_WITH_UNDERSCORES = ("__init__", "__eq__", "__repr__", "__str__", "__len__")
+
+WORDS = (
+    "type typing typing_extensions enum Enum IntEnum StrEnum Flag IntFlag Generic Protocol ABC ABCMeta namedtuple "
+    "NamedTuple TypedDict TYPE_CHECKING abstractmethod"
+).split()
+PARTS_OF_WORDS = ("dataclass", "overload", "contextmanager")
+
+UNUSED = "register mro elements open input version_info with_traceback add_note format format_map".split()
+UNUSED_NAMES = (
+    "attrgetter breakpoint builtins compile copyright credits delattr dir eval exec exit gc getattr globals hasattr "
+    "help id importlib license locals methodcaller os quit setattr super type vars sys __name__ chr print"
+).split()
+
+
+def files():
+    return sorted(path for path in FOLDER.rglob("*") if path.is_file() and "__pycache__" not in path.parts)
+
+
+def trees():
+    return [(path.name, ast.parse(path.read_text("utf-8"))) for path in files()]
+
+
+def module_name(path):
+    return ".".join(("cupdraw",) + path.relative_to(FOLDER).with_suffix("").parts)
+
+
+def bound_names(tree):
+    """Every name that is bound somewhere, with the node that binds it."""
+    names = []
+    for node in ast.walk(tree):
+        if isinstance(node, (ast.FunctionDef, ast.ClassDef)):
+            names.append((node.name, node))
+        elif isinstance(node, ast.arg):
+            names.append((node.arg, node))
+        elif isinstance(node, ast.Name) and isinstance(node.ctx, ast.Store):
+            names.append((node.id, node))
+        elif isinstance(node, ast.Attribute) and isinstance(node.ctx, ast.Store):
+            names.append((node.attr, node))
+        elif isinstance(node, ast.ExceptHandler) and node.name:
+            names.append((node.name, node))
+    return names
+
+
+def top_names(tree):
+    """The names that a file binds at its top, but for imports."""
+    names = []
+    for node in tree.body:
+        if isinstance(node, (ast.FunctionDef, ast.ClassDef)):
+            names.append(node.name)
+        elif isinstance(node, ast.Assign):
+            names.append(node.targets[0].id)
+    return names
+
+
+def imported_names(tree):
+    return [alias.name for node in tree.body if isinstance(node, ast.ImportFrom) for alias in node.names]
+
+
+class Files(unittest.TestCase):
+
+    def test_names_and_kinds(self):
+        self.assertTrue((FOLDER / "__init__.py").is_file())
+        for path in files():
+            self.assertRegex(path.name, r"^([a-z][a-z0-9_]*|__init__|__main__)\.py$")
+            self.assertFalse(path.stem.startswith("test"), path)
+            self.assertNotIn(path.stem, dir(builtins))
+
+    def test_signs_and_sizes(self):
+        for path in files():
+            rows = path.read_bytes().split(b"\n")
+            self.assertLessEqual(len(rows) - 1, 400, path)
+            for number, row in enumerate(rows, 1):
+                self.assertLessEqual(len(row), 120, (path, number))
+                self.assertTrue(all(32 <= sign <= 126 for sign in row), (path, number))
+
+    def test_words(self):
+        for path in files():
+            text = path.read_text("utf-8")
+            for word in WORDS:
+                self.assertIsNone(re.search(rf"\b{word}\b", text), (path, word))
+            for part in PARTS_OF_WORDS:
+                self.assertNotIn(part, text, path)
+
+    def test_functions_are_short(self):
+        for name, tree in trees():
+            for node in ast.walk(tree):
+                if isinstance(node, ast.FunctionDef):
+                    self.assertLessEqual(node.end_lineno - node.lineno + 1, 40, (name, node.name))
+
+
+class Imports(unittest.TestCase):
+
+    def test_names_are_drawn_from_the_file_that_defines_them(self):
+        defined = {module_name(path): top_names(tree) for path, (_, tree) in zip(files(), trees())}
+        for name, tree in trees():
+            for node in ast.walk(tree):
+                if isinstance(node, ast.ImportFrom):
+                    self.assertIn(node, tree.body, name)
+                    self.assertEqual(node.level, 0, name)
+                    for alias in node.names:
+                        self.assertIn(alias.name, defined[node.module], name)
+                        self.assertIsNone(alias.asname, name)
+
+    def test_no_two_files_draw_from_one_another(self):
+        drawn = {}
+        for path, (_, tree) in zip(files(), trees()):
+            drawn[module_name(path)] = {node.module for node in tree.body if isinstance(node, ast.ImportFrom)}
+        while drawn:
+            free = [module for module in drawn if not drawn[module] & set(drawn)]
+            self.assertTrue(free, drawn)
+            for module in free:
+                drawn.pop(module)
+
+    def test_the_first_file_binds_nothing(self):
+        tree = dict(trees())["__init__.py"]
+        self.assertEqual(top_names(tree) + imported_names(tree), [])
+
+
+class Code(unittest.TestCase):
+
+    def each_node(self):
+        for name, tree in trees():
+            for node in ast.walk(tree):
+                yield (name, getattr(node, "lineno", 0)), node
+
+    def test_only_the_plain_parts_of_the_language(self):
+        for place, node in self.each_node():
+            self.assertIn(type(node).__name__, NODES, place)
+            if isinstance(node, ast.Constant):
+                self.assertIsInstance(node.value, (int, str, type(None)), place)
+            if isinstance(node, (ast.FunctionDef, ast.ClassDef)):
+                self.assertEqual(node.decorator_list, [], place)
+            if isinstance(node, (ast.For, ast.While)):
+                self.assertEqual(node.orelse, [], place)
+            if isinstance(node, ast.Try):
+                self.assertEqual(node.finalbody, [], place)
+
+    def test_one_target_in_an_assignment(self):
+        for place, node in self.each_node():
+            if isinstance(node, ast.Assign):
+                self.assertEqual(len(node.targets), 1, place)
+                self.assertNotIsInstance(node.targets[0], (ast.Tuple, ast.List), place)
+
+    def test_plain_parameters(self):
+        for place, node in self.each_node():
+            if isinstance(node, ast.arguments):
+                self.assertEqual((node.vararg, node.kwarg), (None, None), place)
+                self.assertEqual(node.kwonlyargs + node.posonlyargs, [], place)
+
+    def test_comprehensions_are_short(self):
+        for place, node in self.each_node():
+            if isinstance(node, ast.ListComp):
+                self.assertEqual(len(node.generators), 1, place)
+                self.assertLessEqual(len(node.generators[0].ifs), 1, place)
+
+    def test_is_stands_beside_plain_values_alone(self):
+        for place, node in self.each_node():
+            if isinstance(node, ast.Compare) and any(isinstance(op, (ast.Is, ast.IsNot)) for op in node.ops):
+                self.assertTrue(any(
+                    isinstance(side, ast.Constant) and side.value in (None, True, False)
+                    for side in [node.left] + node.comparators
+                ), place)
+
+    def test_the_top_of_a_file(self):
+        for name, tree in trees():
+            self.assertIsNotNone(ast.get_docstring(tree), name)
+            for node in tree.body[1:]:
+                self.assertIsInstance(node, (ast.ImportFrom, ast.FunctionDef, ast.ClassDef, ast.Assign), name)
+
+    def test_classes_are_plain(self):
+        for place, node in self.each_node():
+            if isinstance(node, ast.ClassDef):
+                self.assertLessEqual(len(node.bases), 1, place)
+                self.assertEqual(node.keywords, [], place)
+                for part in node.body:
+                    plain = isinstance(part, (ast.FunctionDef, ast.Pass))
+                    self.assertTrue(plain or part is node.body[0] and ast.get_docstring(node), place)
+
+
+class Names(unittest.TestCase):
+
+    def test_bound_names_are_plain(self):
+        for file_name, tree in trees():
+            for name, node in bound_names(tree):
+                place = (file_name, node.lineno, name)
+                if name not in METHODS_WITH_UNDERSCORES:
+                    self.assertRegex(name, r"^[A-Za-z][A-Za-z0-9_]*$", place)
+                self.assertNotIn(name, UNUSED, place)
+
+    def test_no_name_of_pythons_own_is_bound(self):
+        for file_name, tree in trees():
+            for node in ast.walk(tree):
+                if isinstance(node, ast.arg):
+                    self.assertNotIn(node.arg, dir(builtins), file_name)
+                if isinstance(node, ast.Name) and isinstance(node.ctx, ast.Store):
+                    self.assertNotIn(node.id, dir(builtins), file_name)
+
+    def test_each_name_is_bound_once_at_the_top(self):
+        for file_name, tree in trees():
+            names = top_names(tree) + imported_names(tree)
+            self.assertEqual(sorted(names), sorted(set(names)), file_name)
+
+    def test_no_parameter_or_local_hides_a_class_or_an_import(self):
+        for file_name, tree in trees():
+            classes = [node.name for node in tree.body if isinstance(node, ast.ClassDef)]
+            top = [target for node in tree.body if isinstance(node, ast.Assign) for target in node.targets]
+            for node in ast.walk(tree):
+                if isinstance(node, ast.Name) and isinstance(node.ctx, ast.Store) and node not in top:
+                    self.assertNotIn(node.id, classes + imported_names(tree), file_name)
+                if isinstance(node, ast.arg):
+                    self.assertNotIn(node.arg, classes + imported_names(tree), file_name)
+
+    def test_only_some_of_pythons_own_names_are_used(self):
+        for file_name, tree in trees():
+            bound = [name for name, _ in bound_names(tree)] + imported_names(tree)
+            for node in ast.walk(tree):
+                if isinstance(node, ast.Name) and isinstance(node.ctx, ast.Load):
+                    place = (file_name, node.lineno, node.id)
+                    self.assertIn(node.id, bound + OWN_NAMES, place)
+                    self.assertNotIn(node.id, UNUSED + UNUSED_NAMES, place)
+                if isinstance(node, ast.Attribute):
+                    self.assertNotIn(node.attr, UNUSED, (file_name, node.lineno))
+
+    def test_no_name_is_a_method_here_and_a_value_there(self):
+        methods, values = set(), set()
+        for _, tree in trees():
+            for node in ast.walk(tree):
+                if isinstance(node, ast.ClassDef):
+                    methods |= {part.name for part in node.body if isinstance(part, ast.FunctionDef)}
+                if isinstance(node, ast.Attribute) and isinstance(node.ctx, ast.Store):
+                    values.add(node.attr)
+        self.assertEqual(methods & values, set())
+
+
+if __name__ == "__main__":
+    unittest.main()
