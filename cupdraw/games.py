@@ -53,3 +53,18 @@ def winner_of(game):
 def players_of(game):
     """The players of a game, home first, as a new list."""
     return list(game[:2])
+
+
+def contests_of(games, player):
+    """The contests among the games in which a player was, in their order, as a new list."""
+    return [game for game in games if not is_bye(game) and player in players_of(game)]
+
+
+def other_of(contest, player):
+    """The one whom a player met in a contest of its own."""
+    return contest[1] if contest[0] == player else contest[0]
+
+
+def marks_of(contest, player):
+    """The marks that a player had in a contest of its own."""
+    return contest[2] if contest[0] == player else contest[3]

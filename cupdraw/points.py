@@ -38,6 +38,16 @@ def player_points(rule, games, player):
     return sum([gives(rule, game, player) for game in games])
 
 
+def points_by_player(rule, games):
+    """What all the games give to each player who is in one of them, as a new dict."""
+    points = {}
+    for game in games:
+        for player in players_of(game):
+            points[player] = points.get(player, 0) + gives(rule, game, player)
+    return points
+
+
 def points_of(rule, games, n):
     """The points of the players 0 to n - 1, as a new list."""
-    return [player_points(rule, games, player) for player in range(n)]
+    points = points_by_player(rule, games)
+    return [points.get(player, 0) for player in range(n)]

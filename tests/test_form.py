@@ -38,6 +38,20 @@ UNUSED_NAMES = (
     "help id importlib license locals methodcaller os quit setattr super type vars sys __name__ chr print"
 ).split()
 
+METHODS_OF_PYTHONS_OWN = (
+    "append clear copy count endswith extend find get index insert isalnum isalpha isdigit islower isspace isupper "
+    "items join keys ljust lower lstrip partition pop remove replace reverse rfind rjust rpartition rsplit rstrip "
+    "setdefault split splitlines startswith strip update upper values zfill bit_length"
+).split()
+
+KEYWORDS = {
+    "sorted": ("key", "reverse"), "min": ("key", "default"), "max": ("key", "default"), "sum": ("start",),
+    "enumerate": ("start",), "zip": ("strict",),
+}
+
+WALKED_AT_ONCE = ("zip", "enumerate", "reversed", "range", "items", "keys", "values")
+WALKERS = ("list", "tuple", "dict", "sorted", "sum", "any", "all", "enumerate", "zip", "min", "max", "join")
+
 
 def files():
     return sorted(path for path in FOLDER.rglob("*") if path.is_file() and "__pycache__" not in path.parts)
@@ -202,6 +216,61 @@ class Code(unittest.TestCase):
                 for part in node.body:
                     plain = isinstance(part, (ast.FunctionDef, ast.Pass))
                     self.assertTrue(plain or part is node.body[0] and ast.get_docstring(node), place)
+
+
+def called(node):
+    """The name by which something is called; None for what is no call."""
+    if not isinstance(node, ast.Call):
+        return None
+    return node.func.id if isinstance(node.func, ast.Name) else node.func.attr
+
+
+def parents(tree):
+    return {child: node for node in ast.walk(tree) for child in ast.iter_child_nodes(node)}
+
+
+class Calls(unittest.TestCase):
+
+    def each_call(self):
+        for name, tree in trees():
+            above = parents(tree)
+            for node in ast.walk(tree):
+                if isinstance(node, ast.Call):
+                    yield (name, node.lineno), node, above[node]
+
+    def test_methods_are_those_of_the_list_or_own_ones(self):
+        own = {part.name for _, tree in trees() for node in ast.walk(tree) if isinstance(node, ast.ClassDef)
+               for part in node.body if isinstance(part, ast.FunctionDef)}
+        for place, node, _ in self.each_call():
+            self.assertIsInstance(node.func, (ast.Name, ast.Attribute), place)
+            if isinstance(node.func, ast.Attribute):
+                self.assertIn(node.func.attr, own | set(METHODS_OF_PYTHONS_OWN), place)
+
+    def test_keywords(self):
+        for place, node, _ in self.each_call():
+            for keyword in node.keywords:
+                self.assertIn(keyword.arg, KEYWORDS.get(called(node), ()), place)
+
+    def test_what_is_walked_at_once_is_not_kept(self):
+        for place, node, above in self.each_call():
+            if called(node) in WALKED_AT_ONCE:
+                looped = isinstance(above, (ast.For, ast.comprehension)) and above.iter is node
+                self.assertTrue(looped or called(above) in WALKERS, place)
+
+    def test_sets_are_asked_on_the_spot(self):
+        for place, node, above in self.each_call():
+            self.assertNotEqual(called(node), "frozenset", place)
+            if called(node) == "set":
+                handed = called(above) in ("sorted", "len") and not above.keywords
+                self.assertTrue(handed or isinstance(above, (ast.Compare, ast.BinOp)), place)
+
+    def test_only_own_errors_and_plain_ones_are_taken(self):
+        own = {node.name for _, tree in trees() for node in tree.body if isinstance(node, ast.ClassDef)}
+        for name, tree in trees():
+            for node in ast.walk(tree):
+                if isinstance(node, ast.ExceptHandler):
+                    self.assertIsInstance(node.type, ast.Name, name)
+                    self.assertIn(node.type.id, own | {"KeyError", "ZeroDivisionError", "StopIteration"}, name)
 
 
 class Names(unittest.TestCase):
