@@ -49,6 +49,9 @@ KEYWORDS = {
     "enumerate": ("start",), "zip": ("strict",),
 }
 
+# What may stand as key=, beside a lambda, an own def and an own method.
+KEYS = "len int str abs sum min max tuple".split()
+
 WALKED_AT_ONCE = ("zip", "enumerate", "reversed", "range", "items", "keys", "values")
 WALKERS = ("list", "tuple", "dict", "sorted", "sum", "any", "all", "enumerate", "zip", "min", "max", "join")
 
@@ -202,6 +205,14 @@ class Code(unittest.TestCase):
                     for side in [node.left] + node.comparators
                 ), place)
 
+    def test_powers_and_texts(self):
+        for place, node in self.each_node():
+            if isinstance(node, ast.BinOp) and isinstance(node.op, ast.Pow):
+                self.assertIsInstance(node.right, ast.Constant, place)
+                self.assertIn(node.right.value, range(65), place)
+            if isinstance(node, ast.Constant) and isinstance(node.value, str):
+                self.assertNotIn("%", node.value, place)
+
     def test_the_top_of_a_file(self):
         for name, tree in trees():
             self.assertIsNotNone(ast.get_docstring(tree), name)
@@ -250,6 +261,37 @@ class Calls(unittest.TestCase):
         for place, node, _ in self.each_call():
             for keyword in node.keywords:
                 self.assertIn(keyword.arg, KEYWORDS.get(called(node), ()), place)
+
+    def test_what_stands_as_a_key(self):
+        defined = {name for _, tree in trees() for name, node in bound_names(tree) if isinstance(node, ast.FunctionDef)}
+        for place, node, _ in self.each_call():
+            for keyword in node.keywords:
+                if keyword.arg == "key" and not isinstance(keyword.value, ast.Lambda):
+                    self.assertIn(getattr(keyword.value, "id", getattr(keyword.value, "attr", None)),
+                                  defined | set(KEYS), place)
+                if keyword.arg in ("reverse", "strict"):
+                    self.assertIsInstance(keyword.value, ast.Constant, place)
+
+    def test_methods_are_called_where_they_stand(self):
+        own = {part.name for _, tree in trees() for node in ast.walk(tree) if isinstance(node, ast.ClassDef)
+               for part in node.body if isinstance(part, ast.FunctionDef)}
+        for name, tree in trees():
+            above = parents(tree)
+            for node in ast.walk(tree):
+                if isinstance(node, ast.Attribute) and node.attr in own | set(METHODS_OF_PYTHONS_OWN):
+                    keyed = isinstance(above[node], ast.keyword) and above[node].arg == "key"
+                    called_here = isinstance(above[node], ast.Call) and above[node].func is node
+                    self.assertTrue(keyed or called_here, (name, node.lineno))
+
+    def test_classes_are_made_and_asked_for_alone(self):
+        classes = {node.name for _, tree in trees() for node in tree.body if isinstance(node, ast.ClassDef)}
+        for name, tree in trees():
+            above = parents(tree)
+            for node in ast.walk(tree):
+                if isinstance(node, ast.Name) and node.id in classes:
+                    made = isinstance(above[node], (ast.Call, ast.ClassDef, ast.ExceptHandler, ast.Raise))
+                    base = isinstance(above[node], ast.Attribute) and above[node].attr == "__init__"
+                    self.assertTrue(made or base, (name, node.lineno))
 
     def test_what_is_walked_at_once_is_not_kept(self):
         for place, node, above in self.each_call():
