@@ -52,6 +52,8 @@ KEYWORDS = {
 # What may stand as key=, beside a lambda, an own def and an own method.
 KEYS = "len int str abs sum min max tuple".split()
 
+CHANGES = "append clear extend insert pop remove reverse setdefault update".split()
+
 WALKED_AT_ONCE = ("zip", "enumerate", "reversed", "range", "items", "keys", "values")
 WALKERS = ("list", "tuple", "dict", "sorted", "sum", "any", "all", "enumerate", "zip", "min", "max", "join")
 
@@ -240,6 +242,30 @@ def parents(tree):
     return {child: node for node in ast.walk(tree) for child in ast.iter_child_nodes(node)}
 
 
+def walked_names(node):
+    """The names of what a loop walks, itself or through enumerate, zip, reversed, items and their like."""
+    if isinstance(node, ast.Name):
+        return [node.id]
+    if called(node) in ("enumerate", "zip", "reversed"):
+        return [name for part in node.args for name in walked_names(part)]
+    if called(node) in ("items", "keys", "values"):
+        return walked_names(node.func.value)
+    return []
+
+
+def changed_names(nodes):
+    """The names of what is changed in place somewhere below the nodes."""
+    names = []
+    for node in [below for node in nodes for below in ast.walk(node)]:
+        if isinstance(node, ast.Subscript) and not isinstance(node.ctx, ast.Load):
+            names.append(getattr(node.value, "id", None))
+        if isinstance(node, ast.Call) and isinstance(node.func, ast.Attribute) and node.func.attr in CHANGES:
+            names.append(getattr(node.func.value, "id", None))
+        if isinstance(node, ast.AugAssign):
+            names.append(getattr(node.target, "id", None))
+    return names
+
+
 class Calls(unittest.TestCase):
 
     def each_call(self):
@@ -305,6 +331,27 @@ class Calls(unittest.TestCase):
             if called(node) == "set":
                 handed = called(above) in ("sorted", "len") and not above.keywords
                 self.assertTrue(handed or isinstance(above, (ast.Compare, ast.BinOp)), place)
+
+    def test_what_a_loop_walks_is_not_changed_in_it(self):
+        for name, tree in trees():
+            for node in ast.walk(tree):
+                if isinstance(node, ast.For):
+                    changed = set(walked_names(node.iter)) & set(changed_names(node.body))
+                    self.assertEqual(changed, set(), (name, node.lineno))
+
+    def test_lists_and_dicts_of_the_top_are_only_read(self):
+        for name, tree in trees():
+            kept = {node.targets[0].id for node in tree.body if isinstance(node, ast.Assign)
+                    and isinstance(node.value, (ast.List, ast.Dict))}
+            self.assertEqual(kept & set(changed_names(tree.body)), set(), name)
+            for node in ast.walk(tree):
+                if isinstance(node, (ast.Return, ast.Assign)) and isinstance(node.value, ast.Name):
+                    self.assertNotIn(node.value.id, kept, (name, node.lineno))
+
+    def test_one_lambda_with_the_same_parameters_on_a_line(self):
+        for name, tree in trees():
+            found = [(node.lineno, ast.unparse(node.args)) for node in ast.walk(tree) if isinstance(node, ast.Lambda)]
+            self.assertEqual(len(found), len(set(found)), name)
 
     def test_only_own_errors_and_plain_ones_are_taken(self):
         own = {node.name for _, tree in trees() for node in tree.body if isinstance(node, ast.ClassDef)}
